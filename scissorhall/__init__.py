@@ -1,0 +1,1 @@
+"""Scissorhall: bodies cut into pieces and laid anew."""

@@ -1,0 +1,54 @@
+"""Whole numbers' common divisors, and fractions as tuples (top, bottom) in lowest terms."""
+
+from scissorhall.errors import NoNumber
+
+
+def sign(number):
+    if number > 0:
+        return 1
+    if number < 0:
+        return -1
+    return 0
+
+
+def divisor(one, other):
+    while other != 0:
+        rest = one % other
+        one = other
+        other = rest
+    return abs(one)
+
+
+def fraction(top, bottom=1):
+    if bottom == 0:
+        raise NoNumber("the bottom of a fraction is 0")
+    # With the bottom's sign, the divisor leaves a bottom above 0.
+    common = sign(bottom) * divisor(top, bottom)
+    return (top // common, bottom // common)
+
+
+def plus(one, other):
+    return fraction(one[0] * other[1] + other[0] * one[1], one[1] * other[1])
+
+
+def minus(one, other):
+    return fraction(one[0] * other[1] - other[0] * one[1], one[1] * other[1])
+
+
+def times(one, other):
+    return fraction(one[0] * other[0], one[1] * other[1])
+
+
+def divided(one, other):
+    # Nought to divide by makes a bottom of 0, which fraction refuses.
+    return fraction(one[0] * other[1], one[1] * other[0])
+
+
+def ranked(one, other):
+    # Both bottoms are above 0, so the tops over one bottom stand in the fractions' order.
+    return sign(one[0] * other[1] - other[0] * one[1])
+
+
+def shared(one, other):
+    # Over one bottom, whole multiples of a fraction are those of its top.
+    return fraction(divisor(one[0] * other[1], other[0] * one[1]), one[1] * other[1])
