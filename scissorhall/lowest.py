@@ -19,6 +19,19 @@ def divisor(one, other):
     return abs(one)
 
 
+def reduced(numbers):
+    common = 0
+    for number in numbers:
+        common = divisor(common, number)
+    return [number // common for number in numbers]
+
+
+def lowest_way(numbers):
+    # A way and the same gone backward are one: the first number that is not nought tells the sign.
+    first = [number for number in numbers if number != 0][0]
+    return tuple([sign(first) * number for number in reduced(numbers)])
+
+
 def fraction(top, bottom=1):
     if bottom == 0:
         raise NoNumber("the bottom of a fraction is 0")
@@ -29,6 +42,14 @@ def fraction(top, bottom=1):
 
 def plus(one, other):
     return fraction(one[0] * other[1] + other[0] * one[1], one[1] * other[1])
+
+
+def total(parts):
+    # Two by two, as long bottoms cost the more the earlier they come together.
+    while len(parts) > 1:
+        pairs = [plus(one, other) for one, other in zip(parts[::2], parts[1::2])]
+        parts = pairs + parts[2 * len(pairs):]
+    return parts[0] if parts else (0, 1)
 
 
 def minus(one, other):

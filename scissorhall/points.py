@@ -1,18 +1,14 @@
 """Points, flat (x, y, w) and in space (x, y, z, w), in lowest terms; arrows are told as points too."""
 
 from scissorhall.errors import NoPoint
-from scissorhall.lowest import divisor, fraction, sign
+from scissorhall.lowest import fraction, reduced, sign
 
 
 def point(numbers, bottom=1):
     if bottom == 0:
         raise NoPoint("the bottom of a point is 0")
-    common = bottom
-    for number in numbers:
-        common = divisor(common, number)
-    # With the bottom's sign, the divisor leaves a bottom above 0.
-    common = sign(bottom) * common
-    return tuple([number // common for number in numbers] + [bottom // common])
+    # The bottom's sign goes over to the numbers, as it is to be above 0.
+    return tuple([sign(bottom) * number for number in reduced(list(numbers) + [bottom])])
 
 
 def measures(p):
@@ -42,19 +38,24 @@ def whole_arrow(start, end):
     return [far * start[-1] - near * end[-1] for near, far in zip(start[:-1], end[:-1])]
 
 
-def flat_determinant(u, v):
-    return u[0] * v[1] - u[1] * v[0]
+def dot(u, v):
+    return sum([one * other for one, other in zip(u, v)])
 
 
-def space_determinant(u, v, w):
-    first = u[0] * (v[1] * w[2] - v[2] * w[1])
-    second = u[1] * (v[2] * w[0] - v[0] * w[2])
-    third = u[2] * (v[0] * w[1] - v[1] * w[0])
-    return first + second + third
+def normal(arrows):
+    # The row whose dot product with one arrow more is the determinant of all of them.
+    u = arrows[0]
+    if len(arrows) == 1:
+        return [-u[1], u[0]]
+    v = arrows[1]
+    return [u[1] * v[2] - u[2] * v[1], u[2] * v[0] - u[0] * v[2], u[0] * v[1] - u[1] * v[0]]
+
+
+def determinant(points):
+    # Times the first bottom and each other one, a factor above 0 for each row.
+    rows = [whole_arrow(points[0], p) for p in points[1:]]
+    return dot(normal(rows[:-1]), rows[-1])
 
 
 def side(points):
-    rows = [whole_arrow(points[0], p) for p in points[1:]]
-    if len(rows) == 2:
-        return sign(flat_determinant(rows[0], rows[1]))
-    return sign(space_determinant(rows[0], rows[1], rows[2]))
+    return sign(determinant(points))

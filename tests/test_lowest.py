@@ -34,6 +34,12 @@ class Interface(unittest.TestCase):
             self.assertEqual(arguments(getattr(lowest, name)), ["one", "other"], name)
 
 
+class LowestWay(unittest.TestCase):
+    def test_either_sign_and_noughts(self):
+        for numbers, expected in (((4, -6), (2, -3)), ((-4, 6), (2, -3)), ((0, -5), (0, 1)), ((0, -2, 4), (0, 1, -2))):
+            self.assertEqual(lowest.lowest_way(numbers), expected)
+
+
 class Divisor(unittest.TestCase):
     def test_ordinary_pairs(self):
         self.assertEqual(divisor(12, 18), 6)

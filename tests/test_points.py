@@ -3,9 +3,8 @@
 import itertools
 import unittest
 from fractions import Fraction
-from math import gcd
 
-from kinds import arguments, is_plain, is_whole
+from kinds import arguments, is_plain, is_whole, point_of, worths
 from scissorhall.errors import NoNumber, NoPoint
 from scissorhall.points import added, amid, lessened, measures, point, side, turned
 
@@ -13,18 +12,6 @@ FORTY = 10 ** 39 + 7
 FLAT = [point(numbers, bottom) for numbers in itertools.product((-3, 0, 4), repeat=2) for bottom in (1, 2, 6)]
 SPACE = [point(numbers, bottom) for numbers in itertools.product((-3, 0, 4), repeat=3) for bottom in (1, 6)]
 PAIRS = [(p, q) for kind in (FLAT, SPACE) for p in kind for q in kind]
-
-
-def worths(p):
-    return [Fraction(number, p[-1]) for number in p[:-1]]
-
-
-def point_of(fractions):
-    """The point with these measures, reckoned another way than the program does."""
-    bottom = 1
-    for one in fractions:
-        bottom = bottom * one.denominator // gcd(bottom, one.denominator)
-    return tuple(int(one * bottom) for one in fractions) + (bottom,)
 
 
 def swapped(points, i, k):
