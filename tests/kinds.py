@@ -112,9 +112,19 @@ def heap_of(rows):
     return tuple(made(row) for row in rows)
 
 
+def goes(p, way, arrow):
+    """Where a move takes p."""
+    return point_of([way * x + a for x, a in zip(worths(p), worths(arrow))])
+
+
 def pushed_by(heap, arrow):
-    """The heap with an arrow added to each corner."""
-    return heap_of([[point_of([x + a for x, a in zip(worths(p), worths(arrow))]) for p in piece] for piece in heap])
+    return heap_of([[goes(p, 1, arrow) for p in piece] for piece in heap])
+
+
+def bar(x, y, far_x, far_y):
+    """A flat box of two simplexes."""
+    ends = (spot(x, y), spot(far_x, y), spot(far_x, far_y), spot(x, far_y))
+    return heap_of([ends[:3], (ends[0],) + ends[2:]])
 
 
 HALF_SQUARE = made((spot(0, 0), spot(1, 0), spot(0, 1)))

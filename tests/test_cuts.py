@@ -134,15 +134,16 @@ class Height(unittest.TestCase):
         self.assertEqual(height((2, 0, -3, 4), spot(1, 5, "1/7")), 39)
 
     def test_the_very_number(self):
-        for points, spots in [(pair, FLAT_SPOTS) for pair in FLAT_PAIRS] + [(row, SPACE_SPOTS) for row in SPACE_TRIPLES]:
+        for points in FLAT_PAIRS + SPACE_TRIPLES:
             line = blade(points)
-            for p in spots[::4] + list(points):
+            for p in (FLAT_SPOTS if len(line) == 3 else SPACE_SPOTS)[::4] + list(points):
                 told = height(line, p)
                 self.assertTrue(is_whole(told))
                 self.assertEqual(told, height_by_fractions(line, p))
 
     def test_in_front_behind_and_on(self):
-        for points, arrow in (((spot(0, 0), spot(2, 1)), (0, 1)), ((spot(1, 0, 0), spot(0, 1, 0), spot(0, 0, 1)), (1, 1, 1))):
+        wall = (spot(1, 0, 0), spot(0, 1, 0), spot(0, 0, 1))
+        for points, arrow in (((spot(0, 0), spot(2, 1)), (0, 1)), (wall, (1, 1, 1))):
             line = blade(points)
             on = amidst(points)
             self.assertEqual(height(line, on), 0)

@@ -5,7 +5,8 @@ import unittest
 from fractions import Fraction
 
 from kinds import CORNER, CUBE_OF_FIVE, CUBE_OF_SIX, FLAT_HEAP, HALF_SQUARE, OTHER_HALF, SPACE_HEAP, SQUARE
-from kinds import SQUARE_OTHERWISE, amidst, arguments, content, heap_of, is_plain, is_whole, made, pushed_by, spot, stand
+from kinds import SQUARE_OTHERWISE, amidst, arguments, bar, content, heap_of, is_plain, is_whole, made, pushed_by, spot
+from kinds import stand
 from scissorhall.errors import HallError, OnSide
 from scissorhall.heaps import count_at, same, size
 
@@ -288,10 +289,6 @@ class Same(unittest.TestCase):
 
     def test_layers_exchanged_where_they_cross(self):
         # Two bars laid crosswise: the crossing counts twice, however the bars are parted.
-        def bar(x, y, far_x, far_y):
-            ends = (spot(x, y), spot(far_x, y), spot(far_x, far_y), spot(x, far_y))
-            return heap_of([ends[:3], (ends[0],) + ends[2:]])
-
         across, along, middle = bar(0, 1, 3, 2), bar(1, 0, 2, 3), bar(1, 1, 2, 2)
         arms = bar(0, 1, 1, 2) + bar(2, 1, 3, 2) + bar(1, 0, 2, 1) + bar(1, 2, 2, 3)
         self.assert_same(across + along, arms + middle + middle, True)
