@@ -1,8 +1,8 @@
 """Folding: the steps of heaps, and the layers over a point when each simplex is pushed to the origin."""
 
 from scissorhall.heaps import count_at
-from scissorhall.lowest import divided, shared
-from scissorhall.points import lessened, measures, point
+from scissorhall.lowest import divided, shared, times
+from scissorhall.points import lessened, measures, point_at
 
 
 def steps(heaps):
@@ -18,11 +18,16 @@ def steps(heaps):
 
 
 def in_steps(p, grid):
-    parts = [divided(one, step) for one, step in zip(measures(p), grid)]
-    bottom = 1
-    for part in parts:
-        bottom = bottom * part[1]
-    return point([part[0] * (bottom // part[1]) for part in parts], bottom)
+    return point_at([divided(one, step) for one, step in zip(measures(p), grid)])
+
+
+def out_of_steps(p, grid):
+    return point_at([times(one, step) for one, step in zip(measures(p), grid)])
+
+
+def folded(piece, grid):
+    # In steps, with the first corner at the origin: all bottoms are 1, where the grid is of heaps with this piece.
+    return tuple([in_steps(lessened(corner, piece[0]), grid) for corner in piece])
 
 
 def in_first_cell(p):
@@ -46,7 +51,7 @@ def layers(heap, grid, p):
     near = in_first_cell(in_steps(p, grid))
     count = 0
     for piece in heap:
-        pushed = tuple([in_steps(lessened(corner, piece[0]), grid) for corner in piece])
+        pushed = folded(piece, grid)
         for spot in spots_over(pushed, near):
             count += count_at((pushed,), spot)
     return count

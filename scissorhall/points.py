@@ -15,6 +15,14 @@ def measures(p):
     return tuple([fraction(number, p[-1]) for number in p[:-1]])
 
 
+def point_at(parts):
+    # The point whose measures these fractions are.
+    bottom = 1
+    for part in parts:
+        bottom = bottom * part[1]
+    return point([part[0] * (bottom // part[1]) for part in parts], bottom)
+
+
 def added(p, q):
     numbers = [one * q[-1] + other * p[-1] for one, other in zip(p[:-1], q[:-1])]
     return point(numbers, p[-1] * q[-1])

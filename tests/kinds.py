@@ -121,6 +121,140 @@ def pushed_by(heap, arrow):
     return heap_of([[goes(p, 1, arrow) for p in piece] for piece in heap])
 
 
+def moved_by(heap, way, arrow):
+    return heap_of([[goes(p, way, arrow) for p in piece] for piece in heap])
+
+
+def stretched(heap, factors):
+    """Each measure times its factor; the factors are above 0."""
+    factors = [Fraction(factor) for factor in factors]
+    return heap_of([[point_of([x * f for x, f in zip(worths(p), factors)]) for p in piece] for piece in heap])
+
+
+def is_move(value):
+    return type(value) is tuple and len(value) == 2 and value[0] in (1, -1) and is_whole(value[0]) and is_point(value[1])
+
+
+def is_cutting(value):
+    """Simplexes and moves in their one form, tuples throughout."""
+    return type(value) is tuple and all(
+        type(row) is tuple and len(row) == 2 and is_simplex(row[0]) and is_move(row[1]) for row in value
+    )
+
+
+def across(u, v):
+    """The arrow across both arrows."""
+    return [u[1] * v[2] - u[2] * v[1], u[2] * v[0] - u[0] * v[2], u[0] * v[1] - u[1] * v[0]]
+
+
+def between(p, q):
+    return [y - x for x, y in zip(worths(p), worths(q))]
+
+
+def lowest(numbers):
+    """Whole numbers with the direction of these fractions, without a common divisor; their sign stays."""
+    bottom = 1
+    for one in numbers:
+        bottom = bottom * one.denominator // gcd(bottom, one.denominator)
+    whole = [int(one * bottom) for one in numbers]
+    return tuple(one // gcd(*whole) for one in whole)
+
+
+def by_way(arrow):
+    """The lowest way of an arrow and the fraction that it is of it."""
+    numbers = lowest(arrow)
+    if [one for one in numbers if one][0] < 0:
+        numbers = tuple(-one for one in numbers)
+    return numbers, [x / one for x, one in zip(arrow, numbers) if one][0]
+
+
+def outward(piece):
+    """The walls of a simplex in space with their arrows, which lead out of it."""
+    found = []
+    for k in range(4):
+        wall = piece[:k] + piece[k + 1:]
+        arrow = [x / 2 for x in across(between(wall[0], wall[1]), between(wall[0], wall[2]))]
+        if sum(a * b for a, b in zip(arrow, between(wall[0], piece[k]))) > 0:
+            wall, arrow = (wall[0], wall[2], wall[1]), [-x for x in arrow]
+        found.append((wall, arrow))
+    return found
+
+
+def gathered(rows):
+    sums = {}
+    for key, share in rows:
+        sums[key] = sums.get(key, 0) + share
+    return tuple((key, (sums[key].numerator, sums[key].denominator)) for key in sorted(sums) if sums[key])
+
+
+def sums_of_sides(heap):
+    return gathered([by_way(between(piece[k - 1], piece[k])) for piece in heap for k in range(3)])
+
+
+def sums_of_walls(heap):
+    return gathered([by_way(arrow) for piece in heap for wall, arrow in outward(piece)])
+
+
+def sums_of_edges(heap):
+    rows = []
+    for piece in heap:
+        for wall, arrow in outward(piece):
+            for k in range(3):
+                way, share = by_way(between(wall[k - 1], wall[k]))
+                rows.append(((by_way(arrow)[0], way), share))
+    return gathered(rows)
+
+
+def added_sums(one, other):
+    return gathered([(key, Fraction(*share)) for key, share in one + other])
+
+
+def steps_of(heaps):
+    """The steps by their words: over one bottom, the greatest common divisor of all edges' parts."""
+    edges = [between(p, q) for heap in heaps for piece in heap for p, q in itertools.combinations(piece, 2)]
+    found = []
+    for parts in zip(*edges):
+        bottom = 1
+        for part in parts:
+            bottom = bottom * part.denominator // gcd(bottom, part.denominator)
+        found.append(Fraction(gcd(*[int(part * bottom) for part in parts]), bottom))
+    return found
+
+
+def width_of(one, other):
+    """The two numbers of [20], lines and cells."""
+    grid = steps_of((one, other))
+    ways = set()
+    for piece in one + other:
+        for wall in itertools.combinations(piece, len(piece) - 1):
+            edges = [[x / step for x, step in zip(between(wall[0], p), grid)] for p in wall[1:]]
+            ways.add(by_way(edges[0] if len(edges) == 1 else across(*edges))[0])
+    cells = sum(content(piece) for piece in one)
+    for step in grid:
+        cells /= step
+    return sum(abs(number) for way in ways for number in way), (cells.numerator, cells.denominator)
+
+
+def box_of(corner, *arrows):
+    """A box, one simplex for each order of its arrows."""
+    rows = []
+    for order in itertools.permutations(arrows):
+        row = [spot(*corner)]
+        for arrow in order:
+            row.append(goes(row[-1], 1, spot(*arrow)))
+        rows.append(row)
+    return heap_of(rows)
+
+
+def prism_over(heap, arrow):
+    rows = []
+    for piece in heap:
+        low = [p[:2] + (0,) + p[2:] for p in piece]
+        ring = low + [goes(p, 1, spot(*arrow)) for p in low]
+        rows += [ring[k:k + 4] for k in range(3)]
+    return heap_of(rows)
+
+
 def bar(x, y, far_x, far_y):
     """A flat box of two simplexes."""
     ends = (spot(x, y), spot(far_x, y), spot(far_x, far_y), spot(x, far_y))
