@@ -28,7 +28,8 @@ def leading(one, other, ways, flat_sums, space_sums):
         raise OtherSize("the sizes of the heaps differ")
     if len(one) == 0:
         return ()
-    for sums in flat_sums if len(one[0]) == 3 else space_sums:
+    asked = flat_sums if len(one[0]) == 3 else space_sums
+    for sums in asked:
         key = least_unlike(sums(one), sums(other))
         if key is not None:
             raise OtherSum(key)
@@ -56,7 +57,7 @@ def by_floor(one, other, ways):
 
 def whole_move(way, shift, grid, start, end):
     # Without the steps and from where the simplexes lie: start goes to the end, but for the shift.
-    far = added(end, out_of_steps(tuple(shift) + (1,), grid))
+    far = added(end, out_of_steps(shift + (1,), grid))
     return move(way, lessened(far, start) if way == 1 else added(far, start))
 
 

@@ -132,7 +132,9 @@ def stretched(heap, factors):
 
 
 def is_move(value):
-    return type(value) is tuple and len(value) == 2 and value[0] in (1, -1) and is_whole(value[0]) and is_point(value[1])
+    if type(value) is not tuple or len(value) != 2:
+        return False
+    return is_whole(value[0]) and value[0] in (1, -1) and is_point(value[1])
 
 
 def is_cutting(value):

@@ -4,8 +4,8 @@ import itertools
 import unittest
 from fractions import Fraction
 
-from kinds import CORNER, CUBE_OF_SIX, FLAT_HEAP, SPACE_HEAP, SQUARE, SQUARE_OTHERWISE, arguments, content, made, moved_by
-from kinds import prism_over, spot, stretched
+from kinds import CORNER, CUBE_OF_SIX, FLAT_HEAP, SPACE_HEAP, SQUARE, SQUARE_OTHERWISE, arguments, content, made
+from kinds import moved_by, prism_over, spot, stretched
 from scissorhall.cuts import cut
 from scissorhall.desk import Desk
 from scissorhall.errors import Backward, Flat, HallError, NoAgain, NoName, NoRow, NoText, NoUndo, OnSide, OtherKind
@@ -83,14 +83,21 @@ class Interface(unittest.TestCase):
 class Rows(DeskCase):
     def test_no_row(self):
         lines = [
-            "", " ", "put", "put ", "put  ", "put a", "put  none", " put a none", "puta none", "Put a none", "PUT a none",
-            "walk", "walk a", "walk ", "both", "both a", "both a half", "both a half ", "both a half other ", "both a half other half",
+            "", " ", "put", "put ", "put  ", "put a", "put  none", " put a none", "puta none", "Put a none",
+            "PUT a none",
+            "walk", "walk a", "walk ", "both", "both a", "both a half", "both a half ", "both a half other ",
+            "both a half other half",
             "both  a half other", "push", "push a", "push a half", "push a", "push  a half 0 0", "push a  half 0 0",
-            "turn", "turn a", "turn a half", "prism", "prism a half", "pyramid a half", "pyramid", "drop", "drop ", "drop half ",
-            "drop  half", " drop half", "drop half other", "names ", " names", "names half", "shown", "shown ", "shown half ",
-            "shown half other", "size", "size half ", "size  half", "count", "count half", "count ", "same half", "same half ",
-            "same half other ", "same  half other", "same half  other", "led half", "led half other half", "pushed half",
-            "pushed half other ", "never body", "never body cube ", "undo ", " undo", "undo 1", "again ", "again again", "undo undo",
+            "turn", "turn a", "turn a half", "prism", "prism a half", "pyramid a half", "pyramid", "drop", "drop ",
+            "drop half ",
+            "drop  half", " drop half", "drop half other", "names ", " names", "names half", "shown", "shown ",
+            "shown half ",
+            "shown half other", "size", "size half ", "size  half", "count", "count half", "count ", "same half",
+            "same half ",
+            "same half other ", "same  half other", "same half  other", "led half", "led half other half",
+            "pushed half",
+            "pushed half other ", "never body", "never body cube ", "undo ", " undo", "undo 1", "again ",
+            "again again", "undo undo",
             "shift a half 0 0", "box a 0 0", "none", HALF, "say names", "names\n", "boxed half 1",
         ]
         for line in lines:
@@ -99,10 +106,12 @@ class Rows(DeskCase):
     def test_names_that_are_none(self):
         for name in ("", "A", "a1", "1", "a_b", "a-b", "aB", "abcdefghijklm", "a" * 13, "a" * 40, "a.", "~", "a,"):
             lines = (
-                f"put {name} none", f"walk {name} 0 0", f"both {name} half half", f"both a {name} half", f"both a half {name}",
+                f"put {name} none", f"walk {name} 0 0", f"both {name} half half", f"both a {name} half",
+                f"both a half {name}",
                 f"push {name} half 0 0", f"push a {name} 0 0", f"turn {name} half 0 0", f"prism a {name} 0 0 1",
                 f"pyramid {name} half 0 0 1", f"drop {name}", f"shown {name}", f"size {name}", f"count {name} 0 0",
-                f"same {name} half", f"same half {name}", f"led {name} half", f"pushed half {name}", f"never {name} body",
+                f"same {name} half", f"same half {name}", f"led {name} half", f"pushed half {name}",
+                f"never {name} body",
             )
             for line in lines:
                 self.assert_refused(line, NoRow)
@@ -117,18 +126,27 @@ class Rows(DeskCase):
     def test_what_follows_the_name_is_the_text_whatever_it_is(self):
         for line in ("put a ", "put a  ", "put a  none", "put a none ", "put a x", "put half ", f"put a {HALF} "):
             self.assert_refused(line, NoText)
-        for line in ("walk a ", "walk a  0 0", "walk a 0 0 ", "walk a none", "push a half ", "push a half  1 2", "push a half 1 2 "):
+        for line in (
+            "walk a ", "walk a  0 0", "walk a 0 0 ", "walk a none", "push a half ", "push a half  1 2",
+            "push a half 1 2 ",
+        ):
             self.assert_refused(line, NoText)
         for line in ("turn a half ", "turn a half 1", "prism a half ", "prism a half  0 0 1", "prism a half 1 2 3 4"):
             self.assert_refused(line, NoText)
-        for line in ("pyramid a half ", "pyramid a half 0 0 1 ", "count half ", "count half  1 1", "count half 1", "count half 1 1 "):
+        for line in (
+            "pyramid a half ", "pyramid a half 0 0 1 ", "count half ", "count half  1 1", "count half 1",
+            "count half 1 1 ",
+        ):
             self.assert_refused(line, NoText)
 
     def test_no_name(self):
         lines = (
-            "both a half gone", "both a gone half", "both gone gone gone", "push a gone 0 0", "turn half gone 0 0", "prism a gone 0 0 1",
-            "pyramid a gone 0 0 1", "drop gone", "shown gone", "size gone", "count gone 0 0", "same gone half", "same half gone",
-            "led gone half", "led half gone", "pushed half gone", "pushed gone gone", "never gone body", "never body gone",
+            "both a half gone", "both a gone half", "both gone gone gone", "push a gone 0 0", "turn half gone 0 0",
+            "prism a gone 0 0 1",
+            "pyramid a gone 0 0 1", "drop gone", "shown gone", "size gone", "count gone 0 0", "same gone half",
+            "same half gone",
+            "led gone half", "led half gone", "pushed half gone", "pushed gone gone", "never gone body",
+            "never body gone",
         )
         for line in lines:
             self.assert_refused(line, NoName)
@@ -136,11 +154,17 @@ class Rows(DeskCase):
 
 class Order(DeskCase):
     def test_no_row_ahead_of_no_name(self):
-        for line in ("shown Gone", "same gone half ", "push A gone 0 0", "push a gone", "drop gone ", "both a gone", "led gone B"):
+        for line in (
+            "shown Gone", "same gone half ", "push A gone 0 0", "push a gone", "drop gone ", "both a gone",
+            "led gone B",
+        ):
             self.assert_refused(line, NoRow)
 
     def test_no_name_ahead_of_the_text(self):
-        for line in ("push a gone ", "push a gone x", "turn a gone 0", "prism a gone none", "pyramid a gone ", "count gone ", "count gone x"):
+        for line in (
+            "push a gone ", "push a gone x", "turn a gone 0", "prism a gone none", "pyramid a gone ", "count gone ",
+            "count gone x",
+        ):
             self.assert_refused(line, NoName)
 
     def test_no_name_ahead_of_other_kind(self):
@@ -148,7 +172,9 @@ class Order(DeskCase):
             self.assert_refused(line, NoName)
 
     def test_the_text_ahead_of_other_kind(self):
-        for line in ("push a body 1", "prism a body x", "prism a body 0 0 1 ", "count body 1/0 0", "pyramid a cube  0 0"):
+        for line in (
+            "push a body 1", "prism a body x", "prism a body 0 0 1 ", "count body 1/0 0", "pyramid a cube  0 0",
+        ):
             self.assert_refused(line, NoText)
 
     def test_other_kind_ahead_of_what_the_deed_refuses(self):
@@ -177,17 +203,26 @@ class OtherKinds(DeskCase):
 
     def test_an_arrow_or_a_point_of_another_kind(self):
         for name in FLAT_NAMES:
-            for line in (f"push a {name} 1 2 3", f"turn a {name} 1 2 3", f"count {name} 1 2 3", f"prism a {name} 1 2", f"pyramid a {name} 1 2"):
+            for line in (
+                f"push a {name} 1 2 3", f"turn a {name} 1 2 3", f"count {name} 1 2 3", f"prism a {name} 1 2",
+                f"pyramid a {name} 1 2",
+            ):
                 self.assert_refused(line, OtherKind)
         for name in SPACE_NAMES:
-            for line in (f"push a {name} 1 2", f"turn a {name} 1 2", f"count {name} 1 2", f"prism a {name} 1 2", f"prism a {name} 1 2 3"):
+            for line in (
+                f"push a {name} 1 2", f"turn a {name} 1 2", f"count {name} 1 2", f"prism a {name} 1 2",
+                f"prism a {name} 1 2 3",
+            ):
                 self.assert_refused(line, OtherKind)
             self.assert_refused(f"pyramid a {name} 1 2 3", OtherKind)
             self.assert_refused(f"pyramid a {name} 1 2", OtherKind)
 
     def test_never_asks_heaps_in_space(self):
         for flat in FLAT_NAMES:
-            for line in (f"never {flat} {flat}", f"never {flat} body", f"never body {flat}", f"never {flat} nothing", f"never nothing {flat}"):
+            for line in (
+                f"never {flat} {flat}", f"never {flat} body", f"never body {flat}", f"never {flat} nothing",
+                f"never nothing {flat}",
+            ):
                 self.assert_refused(line, OtherKind)
 
     def test_no_simplex_serves_as_both(self):
@@ -199,7 +234,10 @@ class OtherKinds(DeskCase):
             self.assert_answer(f"same a {name}", "yes")
             self.assert_done(f"both a nothing {name}")
             self.assert_answer(f"same a {name}", "yes")
-        for line in ("push a nothing 1 2", "push a nothing 1 2 3", "turn a nothing 0 0", "turn a nothing 0 0 0", "prism a nothing 0 0 1", "pyramid a nothing 1 2 3"):
+        for line in (
+            "push a nothing 1 2", "push a nothing 1 2 3", "turn a nothing 0 0", "turn a nothing 0 0 0",
+            "prism a nothing 0 0 1", "pyramid a nothing 1 2 3",
+        ):
             self.assert_done(line)
             self.assert_shown("a", "none")
         self.assert_answer("count nothing 1 2", "0")
@@ -239,7 +277,10 @@ class Deeds(DeskCase):
     def test_walks_that_are_refused(self):
         self.assert_refused("walk a 0 0, 0 1, 1 1, 1 0", Backward)
         self.assert_refused("walk half 0 0, 1 1, 1 0, 0 1", Backward)
-        for text in ("", "none", "0 0,1 0,1 1", "0 0, 1 0, 1 1,", "0 0, 1 0, 1 1, ", "0", "0 0 0", "0 0 0, 1 0 0, 1 1 0", "0 0, 1 0, 1 1 1", "0 0 + 1 1", "0 0, , 1 1", "0 1, 0 0, x"):
+        for text in (
+            "", "none", "0 0,1 0,1 1", "0 0, 1 0, 1 1,", "0 0, 1 0, 1 1, ", "0", "0 0 0", "0 0 0, 1 0 0, 1 1 0",
+            "0 0, 1 0, 1 1 1", "0 0 + 1 1", "0 0, , 1 1", "0 1, 0 0, x",
+        ):
             self.assert_refused(f"walk a {text}", NoText)
 
     def test_both(self):
@@ -319,7 +360,9 @@ class Questions(DeskCase):
         self.assert_answer("count a 1/4 1/3", "2")
         self.assert_answer("count body 1/10 1/10 1/10", "1")
         self.assert_answer("count body 1 1 -1", "0")
-        for line in ("count half 0 0", "count half 1/2 1/2", "count square 1/2 1/2", "count body 0 0 0", "count cube 1 1/2 1/3"):
+        for line in (
+            "count half 0 0", "count half 1/2 1/2", "count square 1/2 1/2", "count body 0 0 0", "count cube 1 1/2 1/3",
+        ):
             self.assert_refused(line, OnSide)
 
     def test_same(self):
@@ -440,7 +483,10 @@ class Questions(DeskCase):
         self.assertEqual(self.desk.tell("led one two"), "sum " + " ".join(str(number) for number in numbers))
 
     def test_one_name_for_all(self):
-        for line, answer in (("same half half", "yes"), ("led cube cube", "yes"), ("pushed cube cube", "yes"), ("never body body", "open")):
+        for line, answer in (
+            ("same half half", "yes"), ("led cube cube", "yes"), ("pushed cube cube", "yes"),
+            ("never body body", "open"),
+        ):
             self.assert_answer(line, answer)
 
 
@@ -454,7 +500,8 @@ class UndoAndAgain(DeskCase):
 
     def test_each_deed_back_and_again(self):
         lines = (
-            "put a " + HALF, "put b " + OTHER, "both c a b", "walk a 0 0, 2 0, 2 2, 0 2", "push a a 1 1", "turn b b 1/2 3",
+            "put a " + HALF, "put b " + OTHER, "both c a b", "walk a 0 0, 2 0, 2 2, 0 2", "push a a 1 1",
+            "turn b b 1/2 3",
             "prism d b 0 0 1", "pyramid d c 1 2 3", "drop b", "put b none", "drop a",
         )
         seen = [all_shown(self.desk)]
@@ -508,7 +555,10 @@ class UndoAndAgain(DeskCase):
         for line in ("put a " + HALF, "put b " + OTHER, "undo"):
             self.assert_done(line)
         questions = ("names", "shown a", "size a", "count a 1/4 1/4", "same a a", "led a a", "pushed a a")
-        refused = ("put b x", "drop b", "walk a 0 0, 0 1, 1 0", "push a b 0 0", "prism a a 0 0 0", "nothing", "both a a b", "push a a 0 0 0", "count a 0 0", "again 1")
+        refused = (
+            "put b x", "drop b", "walk a 0 0, 0 1, 1 0", "push a b 0 0", "prism a a 0 0 0", "nothing", "both a a b",
+            "push a a 0 0 0", "count a 0 0", "again 1",
+        )
         for line in questions:
             self.desk.tell(line)
         for line in refused:

@@ -3,7 +3,7 @@
 import itertools
 import unittest
 
-from kinds import CORNER, CUBE_OF_FIVE, HALF_SQUARE, SQUARE, content, spot, stand
+from kinds import CORNER, CUBE_OF_FIVE, HALF_SQUARE, SQUARE, bar, content, spot, stand
 from scissorhall.floors import Floor, Folded
 from scissorhall.leading import led
 
@@ -62,6 +62,8 @@ class Layers(unittest.TestCase):
     def test_what_fits_whole_is_moved_whole(self):
         self.assertEqual(len(led(SQUARE * 3, SQUARE[::-1] * 3)), 6)
         self.assertEqual(len(led(CUBE_OF_FIVE, CUBE_OF_FIVE[::-1])), 5)
+        # Cut where it must be, and not at each border of a cell: there are sixty of them.
+        self.assertLess(len(led(bar(0, 0, 6, 10), bar(0, 0, 12, 5))), 30)
         told = led((HALF_SQUARE,), (SQUARE[1],))
         self.assertEqual([content(piece) for piece, move in told], [content(HALF_SQUARE)])
 

@@ -6,7 +6,8 @@ from fractions import Fraction
 
 from kinds import CORNER, CUBE_OF_FIVE, CUBE_OF_SIX, FLAT_HEAP, HALF_SQUARE, OTHER_HALF, SPACE_HEAP, SQUARE
 from kinds import SQUARE_OTHERWISE, arguments, bar, box_of, content, heap_of, is_cutting, is_plain, is_whole, made
-from kinds import moved_by, prism_over, pushed_by, spot, stretched, sums_of_edges, sums_of_sides, sums_of_walls, width_of
+from kinds import moved_by, prism_over, pushed_by, spot, stretched, sums_of_edges, sums_of_sides, sums_of_walls
+from kinds import width_of
 from scissorhall.cuts import cut
 from scissorhall.cuttings import back, behind, comes_of, goes_to, leads
 from scissorhall.errors import HallError, OtherSize, OtherSum, TooWide
@@ -421,7 +422,9 @@ class Widths(LeadingCase):
         for factor, one, other in ((700, SKEW, TALL * 2), (400, FLAT_HEAP[:1], FLAT_HEAP[:1]), (130, WIDE, TALL)):
             one, other = one * factor, other * factor
             self.assert_too_wide(led, one, other, *width_of(one, other))
-        for heap in (WIDE_BODY * 73, SPACE_HEAP, SLANTED * 13, HALF_PRISM * 25, body((1, 2, 3), (3, -1, 2), (-2, 3, 2)) * 9):
+        for heap in (
+            WIDE_BODY * 73, SPACE_HEAP, SLANTED * 13, HALF_PRISM * 25, body((1, 2, 3), (3, -1, 2), (-2, 3, 2)) * 9,
+        ):
             for other in (heap, scattered(heap, (1, -1))):
                 self.assert_too_wide(led, heap, other, *width_of(heap, other))
 

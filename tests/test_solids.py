@@ -1,4 +1,4 @@
-"""Walks, prisms, pyramids and boxes: [29] to [33], of [27] what speaks of them, and of [2] to [4] what holds for them."""
+"""Walks, prisms, pyramids and boxes: [29] to [33], and of [27] and [2] to [4] what holds for them."""
 
 import itertools
 import unittest
@@ -165,7 +165,10 @@ class Walked(WalkCase):
     def test_rings_with_corners_that_turn_right(self):
         arrow = ring_of((0, 0), (4, 2), (0, 4), (1, 2))
         comb = ring_of((0, 0), (7, 0), (7, 3), (6, 3), (6, 1), (5, 1), (5, 3), (3, 3), (3, 1), (2, 2), (1, 1), (0, 4))
-        spiral = ring_of((0, 0), (6, 0), (6, 6), (0, 6), (0, 2), (4, 2), (4, 4), (2, 4), (2, 3), (3, 3), (1, "5/2"), (1, 5), (5, 5), (5, 1), (0, 1))
+        spiral = ring_of(
+            (0, 0), (6, 0), (6, 6), (0, 6), (0, 2), (4, 2), (4, 4), (2, 4), (2, 3), (3, 3), (1, "5/2"), (1, 5), (5, 5),
+            (5, 1), (0, 1),
+        )
         for ring in (arrow, comb, spiral):
             for k in range(len(ring)):
                 self.assert_walked(ring[k:] + ring[:k])
@@ -201,8 +204,9 @@ class Walked(WalkCase):
         kept = 0
         for k in range(240):
             count = 3 + k % 7
-            rows = [((k * (j + 3) * 7 + j * j * 5) % 11 - 5, (k * (2 * j + 1) + j * 17 + k // 7) % 9 - 4) for j in range(count)]
-            ring = ring_of(*rows)
+            xs = [(k * (j + 3) * 7 + j * j * 5) % 11 - 5 for j in range(count)]
+            ys = [(k * (2 * j + 1) + j * 17 + k // 7) % 9 - 4 for j in range(count)]
+            ring = ring_of(*zip(xs, ys))
             if k % 3:
                 ring += ring_of((-6, -6), (7, -6), (7, 6), (-6, 6)) * (k % 3)
             kept += self.assert_told(ring)

@@ -95,7 +95,8 @@ class Numbers(TextCase):
     def test_read_in_other_terms(self):
         rows = (
             ("0012", (12, 1)), ("-0", (0, 1)), ("6/4", (3, 2)), ("-6/4", (-3, 2)), ("0/5", (0, 1)), ("-0/7", (0, 1)),
-            ("8/2", (4, 1)), ("008/006", (4, 3)), ("0" * 60, (0, 1)), ("0" * 59 + "1", (1, 1)), ("1/" + "0" * 59 + "2", (1, 2)),
+            ("8/2", (4, 1)), ("008/006", (4, 3)), ("0" * 60, (0, 1)), ("0" * 59 + "1", (1, 1)),
+            ("1/" + "0" * 59 + "2", (1, 2)),
             ("9" * 60, (SIXTY, 1)), ("-" + "9" * 60 + "/" + "9" * 60, (-1, 1)), ("00/01", (0, 1)),
         )
         for text, number in rows:
@@ -111,7 +112,8 @@ class Points(TextCase):
     def test_shown_and_read(self):
         rows = (
             ((0, 0, 1), "0 0"), ((1, 2, 4), "1/4 1/2"), ((-3, 4, 6), "-1/2 2/3"), ((0, 0, 0, 1), "0 0 0"),
-            ((6, -3, 4, 12), "1/2 -1/4 1/3"), ((SIXTY, 1, 1), "9" * 60 + " 1"), ((1, -SIXTY, 0, SIXTY), "1/" + "9" * 60 + " -1 0"),
+            ((6, -3, 4, 12), "1/2 -1/4 1/3"), ((SIXTY, 1, 1), "9" * 60 + " 1"),
+            ((1, -SIXTY, 0, SIXTY), "1/" + "9" * 60 + " -1 0"),
         )
         for p, text in rows:
             self.assertEqual(shown_point(p), text)
@@ -131,7 +133,9 @@ class Points(TextCase):
                 self.assert_refused(TooGreat, shown_point, spot(*row))
 
     def test_no_text(self):
-        for text in ("", " ", "1", "1 2 3 4", "1  2", " 1 2", "1 2 ", "1 2 3 ", "1, 2", "1,2", "1 2, 3", "none", "1\t2"):
+        for text in (
+            "", " ", "1", "1 2 3 4", "1  2", " 1 2", "1 2 ", "1 2 3 ", "1, 2", "1,2", "1 2, 3", "none", "1\t2",
+        ):
             self.assert_refused(NoText, read_point, text)
         for bad in BAD_NUMBERS:
             for text in (f"{bad} 1", f"1 {bad}", f"1 2 {bad}", f"{bad} 0 0"):
@@ -141,7 +145,8 @@ class Points(TextCase):
 class Heaps(TextCase):
     def test_shown_and_read(self):
         heaps = (
-            (), (HALF_SQUARE,), SQUARE, SQUARE * 3, FLAT_HEAP, FLAT_HEAP[::-1], (CORNER,), CUBE_OF_FIVE, CUBE_OF_SIX, SPACE_HEAP,
+            (), (HALF_SQUARE,), SQUARE, SQUARE * 3, FLAT_HEAP, FLAT_HEAP[::-1], (CORNER,), CUBE_OF_FIVE, CUBE_OF_SIX,
+            SPACE_HEAP,
             heap_of([(spot(SIXTY, 0), spot(0, 1), spot(Fraction(-1, SIXTY), 0))]),
         )
         for heap in heaps:
@@ -173,10 +178,14 @@ class Heaps(TextCase):
     def test_no_text(self):
         good, body = heap_text(SQUARE), heap_text((CORNER,))
         texts = [
-            "", " ", "None", "none ", " none", "none + none", good + " + none", "none + " + good, good + " +", good + " + ",
-            "+ " + good, " + " + good, good + " + + " + good, good + "+" + good, good + " +  " + good, good + "  + " + good,
-            " " + good, good + " ", good + ",", good + ", ", ", " + good, good.replace(", ", ","), good.replace(", ", " , "),
-            good.replace(", ", ",  "), good + " + " + body, body + " + " + good, "0 0", "0 0, 1 0", "0 0, 1 0, 0 1, 5 7",
+            "", " ", "None", "none ", " none", "none + none", good + " + none", "none + " + good, good + " +",
+            good + " + ",
+            "+ " + good, " + " + good, good + " + + " + good, good + "+" + good, good + " +  " + good,
+            good + "  + " + good,
+            " " + good, good + " ", good + ",", good + ", ", ", " + good, good.replace(", ", ","),
+            good.replace(", ", " , "),
+            good.replace(", ", ",  "), good + " + " + body, body + " + " + good, "0 0", "0 0, 1 0",
+            "0 0, 1 0, 0 1, 5 7",
             "0 0 0, 1 0 0, 0 1 0", "0 0 0, 1 0 0, 0 1 0, 0 0 1, 1 2 3", "0 0, 1 0, 0 1 0", "0 0 0, 1 0, 0 1",
             "0 0 0, 1 0 0, 0 1 0, 0 1", "0, 1, 2", "0 0 0 0, 1 0 0 0, 0 1 0 0, 0 0 1 0", "0 0, 1 0, 0 1 by push 0 0",
         ]
@@ -191,7 +200,9 @@ class Heaps(TextCase):
                 self.assert_refused(NoText, read_heap, good + " + " + text)
 
     def test_flat(self):
-        rows = ("0 0, 1 1, 2 2", "0 0, 0 0, 1 0", "1 2, 1 2, 1 2", "0 0 0, 1 0 0, 0 1 0, 5 7 0", "1/2 1/3, 2/4 2/6, 0 1")
+        rows = (
+            "0 0, 1 1, 2 2", "0 0, 0 0, 1 0", "1 2, 1 2, 1 2", "0 0 0, 1 0 0, 0 1 0, 5 7 0", "1/2 1/3, 2/4 2/6, 0 1",
+        )
         for text in rows:
             self.assert_refused(Flat, read_heap, text)
             self.assert_refused(Flat, read_heap, text + " + " + text)
@@ -200,13 +211,17 @@ class Heaps(TextCase):
 
     def test_no_text_ahead_of_flat(self):
         flat = "0 0, 1 1, 2 2"
-        for text in (flat + " + ", flat + " + 0 0, 1 0", flat + " + x", "0 0, 1 0, 1/0 2 + " + flat, flat + " + " + heap_text((CORNER,))):
+        for text in (
+            flat + " + ", flat + " + 0 0, 1 0", flat + " + x", "0 0, 1 0, 1/0 2 + " + flat,
+            flat + " + " + heap_text((CORNER,)),
+        ):
             self.assert_refused(NoText, read_heap, text)
 
 
 class Cuttings(TextCase):
     def test_shown_and_read(self):
-        cuttings = [rows_of(heap) for heap in ((HALF_SQUARE,), SQUARE * 2, FLAT_HEAP, (CORNER,), CUBE_OF_FIVE, SPACE_HEAP)]
+        heaps = ((HALF_SQUARE,), SQUARE * 2, FLAT_HEAP, (CORNER,), CUBE_OF_FIVE, SPACE_HEAP)
+        cuttings = [rows_of(heap) for heap in heaps]
         cuttings += [(), led(SQUARE, SQUARE[::-1]), led((HALF_SQUARE,) * 2, SQUARE)]
         for cutting in cuttings:
             for handed in (list(cutting), tuple(cutting)):
@@ -233,9 +248,12 @@ class Cuttings(TextCase):
         texts = [
             "", " ", "none ", "none + " + good, good + " + none", good + " + ", " + " + good, good + " + " + body,
             body + " + " + good, good + " ", " " + good, good + ",", "by push 0 0", " by push 0 0", "0 0, 1 0, 0 1",
-            "0 0, 1 0, 0 1 by", "0 0, 1 0, 0 1 by ", "0 0, 1 0, 0 1 by push", "0 0, 1 0, 0 1 by push ", "0 0, 1 0, 0 1 push 0 0",
-            "0 0, 1 0, 0 1 by pull 0 0", "0 0, 1 0, 0 1 by Push 0 0", "0 0, 1 0, 0 1 by  push 0 0", "0 0, 1 0, 0 1  by push 0 0",
-            "0 0, 1 0, 0 1 by push  0 0", "0 0, 1 0, 0 1 by push 0", "0 0, 1 0, 0 1 by push 0 0 0", "0 0, 1 0, 0 1 by push 0, 0",
+            "0 0, 1 0, 0 1 by", "0 0, 1 0, 0 1 by ", "0 0, 1 0, 0 1 by push", "0 0, 1 0, 0 1 by push ",
+            "0 0, 1 0, 0 1 push 0 0",
+            "0 0, 1 0, 0 1 by pull 0 0", "0 0, 1 0, 0 1 by Push 0 0", "0 0, 1 0, 0 1 by  push 0 0",
+            "0 0, 1 0, 0 1  by push 0 0",
+            "0 0, 1 0, 0 1 by push  0 0", "0 0, 1 0, 0 1 by push 0", "0 0, 1 0, 0 1 by push 0 0 0",
+            "0 0, 1 0, 0 1 by push 0, 0",
             "0 0, 1 0, 0 1 by push 1/0 0", "0 0, 1 0, 0 1 by 0 0", "0 0, 1 0, 0 1 by push 0 0 by push 0 0",
             "0 0, 1 0 by push 0 0", "0 0, 1 0, 0 1, 1 1 by push 0 0", "0 0 0, 1 0 0, 0 1 0, 0 0 1 by turn 0 0",
             "none by push 0 0", "0 0, 1 0, 0 1 by none", "0 0, 1 0, 0 1 bypush 0 0", "0 0, 1 0, 0 1 by turn push 0 0",

@@ -169,7 +169,9 @@ class TurnSum(TurnCase):
         self.assertEqual(turn_sum(heap), sum_of_turns(heap))
 
     def test_ways_near_the_bound(self):
-        heap = body((0, 0, 0), (1, 0, 0), (0, 1, 0), (149, 150, 1)) + body((0, 0, 0), (0, 17, 0), (0, 5, 16), (13, 1, 1))
+        heap = body(
+            (0, 0, 0), (1, 0, 0), (0, 1, 0), (149, 150, 1),
+        ) + body((0, 0, 0), (0, 17, 0), (0, 5, 16), (13, 1, 1))
         self.assertLessEqual(steepness(heap), 300)
         self.assertEqual(turn_sum(heap), sum_of_turns(heap))
 
@@ -212,7 +214,9 @@ class TurnSum(TurnCase):
         for arrow in ((0, 0, 1), (1, "-1/2", 3), (0, 2, -1)):
             self.assertEqual(turn_sum(prism_over((HALF_SQUARE,), arrow)), ())
         self.assertEqual(turn_sum(prism_over(FLAT_HEAP[:1], (0, 0, 1))), ())
-        for arrows in (((1, 0, 0), (0, 1, 0), (0, 0, 1)), ((1, 2, 0), (0, 1, 3), (2, 0, 1)), ((1, 1, 1), (0, 1, 0), (5, 0, 3))):
+        for arrows in (
+            ((1, 0, 0), (0, 1, 0), (0, 0, 1)), ((1, 2, 0), (0, 1, 3), (2, 0, 1)), ((1, 1, 1), (0, 1, 0), (5, 0, 3)),
+        ):
             self.assertEqual(turn_sum(box_of((1, 2, 3), *arrows)), ())
 
 

@@ -6,8 +6,8 @@ import unittest
 from fractions import Fraction
 
 import scissorhall
-from kinds import CORNER, CUBE_OF_FIVE, CUBE_OF_SIX, HALF_SQUARE, SQUARE, SQUARE_OTHERWISE, added_sums, heap_of, moved_by
-from kinds import spot
+from kinds import CORNER, CUBE_OF_FIVE, CUBE_OF_SIX, HALF_SQUARE, SQUARE, SQUARE_OTHERWISE, added_sums, heap_of
+from kinds import moved_by, spot
 from scissorhall.boxed import boxed, long_box
 from scissorhall.cuts import cut
 from scissorhall.cuttings import back, behind, comes_of, goes_to, leads
@@ -127,7 +127,9 @@ class Sums(unittest.TestCase):
 
 class Cuttings(unittest.TestCase):
     def test_from_one_to_the_last_and_back(self):
-        heaps = (triangle((0, 0), (2, 0), (0, 2)), SQUARE * 2, long_box((2, 1), (1, 2)), triangle((0, 0), (4, 0), (3, 1)))
+        heaps = (
+            triangle((0, 0), (2, 0), (0, 2)), SQUARE * 2, long_box((2, 1), (1, 2)), triangle((0, 0), (4, 0), (3, 1)),
+        )
         whole = ()
         for one, other in zip(heaps, heaps[1:]):
             step = led(one, other)
