@@ -35,7 +35,11 @@ def tidied(ring):
 
 
 def lines_of_sides(ring):
-    return [blade((ring[k - 1], ring[k])) for k in range(len(ring))]
+    # Each line once, as a ring may go along it often.
+    lines = {}
+    for k in range(len(ring)):
+        lines[blade((ring[k - 1], ring[k]))] = True
+    return list(lines)
 
 
 def heights_over(line, ring):
@@ -52,10 +56,10 @@ def box_about(ring):
     return [point(row) for row in numbers]
 
 
-def hub(ring):
+def hub(ring, lines):
     # A point that has no side of the ring on the wrong hand, one of the ring's own if there is one, or None.
     left = box_about(ring)
-    for line in lines_of_sides(ring):
+    for line in lines:
         left = clipped(left, heights_over(line, left))
         if not left:
             return None
@@ -63,10 +67,10 @@ def hub(ring):
     return min(own) if own else min(left)
 
 
-def splitting_line(ring):
+def splitting_line(ring, lines):
     # None where each side has all of the ring on one hand.
     best = None
-    for line in lines_of_sides(ring):
+    for line in lines:
         heights = [height(line, p) for p in ring]
         front = len([number for number in heights if number > 0])
         back = len([number for number in heights if number < 0])

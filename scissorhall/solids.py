@@ -2,7 +2,7 @@
 
 from scissorhall.errors import Backward, Flat
 from scissorhall.points import added, side
-from scissorhall.rings import hub, parted, splitting_line, tidied
+from scissorhall.rings import hub, lines_of_sides, parted, splitting_line, tidied
 from scissorhall.simplexes import simplex
 
 # The orders in which a box adds its arrows.
@@ -22,11 +22,12 @@ def walked(ring):
         part = waiting.pop()
         if len(part) < 3:
             continue
-        top = hub(part)
+        lines = lines_of_sides(part)
+        top = hub(part, lines)
         if top is not None:
             found += fan(top, part)
             continue
-        line = splitting_line(part)
+        line = splitting_line(part, lines)
         if line is None:
             # No side has the ring on both hands, so it goes round and round one convex body, here to the right.
             raise Backward("the ring goes round some point more often to the right than to the left")
